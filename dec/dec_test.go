@@ -9,22 +9,20 @@ import (
 
 	"thresher/api"
 	"thresher/dec"
+	"thresher/probe"
 )
 
-// dice makes words, always the same ones.
-type dice uint64
+// dice makes numbers by chance.
+type dice struct{ probe.Dice }
 
-func (d *dice) next() uint64 {
-	*d = *d*6364136223846793005 + 1442695040888963407
-	high := uint64(*d >> 32)
-	*d = *d*6364136223846793005 + 1442695040888963407
-	return high<<32 | uint64(*d>>32)
+func newDice(seed uint64) *dice {
+	return &dice{probe.Dice(seed)}
 }
 
 // float: a finite one.
 func (d *dice) float() float64 {
 	for {
-		if x := math.Float64frombits(d.next()); !math.IsNaN(x) && !math.IsInf(x, 0) {
+		if x := math.Float64frombits(d.Next()); !math.IsNaN(x) && !math.IsInf(x, 0) {
 			return x
 		}
 	}
@@ -34,7 +32,7 @@ func (d *dice) float() float64 {
 func (d *dice) digits(n int) string {
 	list := make([]byte, n)
 	for i := range list {
-		list[i] = '0' + byte(d.next()>>32%10)
+		list[i] = '0' + byte(d.Next()>>32%10)
 	}
 	return string(list)
 }
@@ -107,7 +105,7 @@ func checkRead(t *testing.T, digits string, exp int, want float64) {
 
 // P3.1: Parts of floats of each power of two.
 func TestParts(t *testing.T) {
-	d := dice(1)
+	d := newDice(1)
 	for _, x := range d.floats(5000) {
 		for _, signed := range []float64{x, -x} {
 			m, e, ok := dec.Parts(signed)
@@ -171,18 +169,18 @@ func TestReadTable(t *testing.T) {
 
 // P3.1: digits of each length, at powers of ten all over the floats and beyond.
 func TestReadAll(t *testing.T) {
-	d := dice(2)
+	d := newDice(2)
 	for range 20000 {
-		n := 1 + int(d.next()>>40%40)
+		n := 1 + int(d.Next()>>40%40)
 		digits := d.digits(n)
-		exp := int(d.next()>>40%720) - 370
+		exp := int(d.Next()>>40%720) - 370
 		want, _ := strconv.ParseFloat(digits+"e"+strconv.Itoa(exp), 64)
 		checkRead(t, digits, exp, want)
 	}
 	for range 600 {
-		n := 1 + int(d.next()>>40%1024)
+		n := 1 + int(d.Next()>>40%1024)
 		digits := d.digits(n)
-		exp := int(d.next()>>40%720) - 370 - n
+		exp := int(d.Next()>>40%720) - 370 - n
 		want, _ := value(digits, exp).Float64()
 		checkRead(t, digits, exp, want)
 	}
@@ -306,9 +304,9 @@ func TestWriteTable(t *testing.T) {
 
 // P3.1: floats of all sizes, with as many digits as are allowed.
 func TestWriteAll(t *testing.T) {
-	d := dice(3)
+	d := newDice(3)
 	for i, x := range d.floats(5000) {
-		for _, prec := range []int{0, i % 7, 6, int(d.next() >> 40 % 201)} {
+		for _, prec := range []int{0, i % 7, 6, int(d.Next() >> 40 % 201)} {
 			checkFixed(t, x, prec)
 			checkSci(t, x, prec)
 		}
@@ -343,7 +341,7 @@ func TestWriteWrong(t *testing.T) {
 
 // P3.2, P2: seventeen digits are read as the float they were written from.
 func TestThereAndBack(t *testing.T) {
-	d := dice(4)
+	d := newDice(4)
 	for _, x := range d.floats(20000) {
 		digits, power, e := dec.Sci(x, 16)
 		if e != api.OK || len(digits) != 17 {
@@ -378,14 +376,14 @@ func TestReadRises(t *testing.T) {
 
 // P3.3: what Sci answers is at most half of its last digit away.
 func TestSciIsNear(t *testing.T) {
-	d := dice(5)
+	d := newDice(5)
 	list := handy()
 	for range 1500 {
 		list = append(list, d.float())
 	}
 	half := big.NewRat(1, 2)
 	for _, x := range list {
-		for _, prec := range []int{0, 1, 5, 16, int(d.next() >> 40 % 201)} {
+		for _, prec := range []int{0, 1, 5, 16, int(d.Next() >> 40 % 201)} {
 			digits, power, e := dec.Sci(x, prec)
 			if e != api.OK || len(digits) != prec+1 || x != 0 && digits[0] == '0' {
 				t.Fatalf("Sci(%v, %d): %s, %d, %d", x, prec, digits, power, e)

@@ -12,41 +12,30 @@ import (
 	"thresher/api"
 	"thresher/format"
 	"thresher/num"
+	"thresher/probe"
 )
 
-// dice makes words, always the same ones.
-type dice uint64
+// dice makes numbers and formats by chance.
+type dice struct{ probe.Dice }
 
-func (d *dice) next() uint64 {
-	*d = *d*6364136223846793005 + 1442695040888963407
-	high := uint64(*d >> 32)
-	*d = *d*6364136223846793005 + 1442695040888963407
-	return high<<32 | uint64(*d>>32)
-}
-
-// below: a number from 0 on, less than n.
-func (d *dice) below(n int) int {
-	return int(d.next() >> 40 % uint64(n))
-}
-
-func (d *dice) coin() bool {
-	return d.below(2) == 1
+func newDice(seed uint64) *dice {
+	return &dice{probe.Dice(seed)}
 }
 
 // float: one of any size; one not far from 1; a whole one; one with few digits.
 func (d *dice) float() float64 {
-	x := math.Float64frombits(d.next() >> 1)
-	switch d.below(5) {
+	x := math.Float64frombits(d.Next() >> 1)
+	switch d.Below(5) {
 	case 0:
-		x = math.Ldexp(float64(d.next()>>(11+d.below(52))), d.below(120)-80)
+		x = math.Ldexp(float64(d.Next()>>(11+d.Below(52))), d.Below(120)-80)
 	case 1:
-		x = float64(d.next() >> d.below(64))
+		x = float64(d.Next() >> d.Below(64))
 	case 2:
-		x = float64(d.below(20000)) / 16
+		x = float64(d.Below(20000)) / 16
 	case 3:
-		x = math.Pow(10, float64(d.below(40)-20))
+		x = math.Pow(10, float64(d.Below(40)-20))
 	}
-	if d.coin() {
+	if d.Coin() {
 		return -x
 	}
 	return x
@@ -54,12 +43,12 @@ func (d *dice) float() float64 {
 
 // spec: one that Check takes, with this verb.
 func (d *dice) spec(verb byte) api.Spec {
-	p := api.Spec{Minus: d.below(4) == 0, Plus: d.coin(), Blank: d.coin(), Alt: d.coin(), Zero: d.coin(), Prec: -1, Verb: verb}
-	if d.coin() {
-		p.Width = d.below(40)
+	p := api.Spec{Minus: d.Below(4) == 0, Plus: d.Coin(), Blank: d.Coin(), Alt: d.Coin(), Zero: d.Coin(), Prec: -1, Verb: verb}
+	if d.Coin() {
+		p.Width = d.Below(40)
 	}
-	if d.coin() {
-		p.Prec = d.below(25)
+	if d.Coin() {
+		p.Prec = d.Below(25)
 	}
 	return p
 }
@@ -104,17 +93,6 @@ func written(p api.Spec) string {
 		s += "." + strconv.Itoa(p.Prec)
 	}
 	return s + string(rune(p.Verb))
-}
-
-// eachWord goes through all strings of at most so many of these pieces.
-func eachWord(s string, most int, pieces []string, do func(s string)) {
-	do(s)
-	if most == 0 {
-		return
-	}
-	for _, p := range pieces {
-		eachWord(s+p, most-1, pieces, do)
-	}
 }
 
 // grammar: that of a part, told once more.
@@ -190,9 +168,9 @@ func TestParse(t *testing.T) {
 			checkParse(t, s, at)
 		}
 	}
-	eachWord("", 5, strings.Split("%-0.*5dq", ""), all)
-	eachWord("%", 4, strings.Split("-+ #0.*19g%", ""), all)
-	eachWord("%", 4, []string{"0", "1", "12", "12345", "99999", "00000", ".", "*", "+", "s"}, all)
+	probe.EachWord("", 5, strings.Split("%-0.*5dq", ""), all)
+	probe.EachWord("%", 4, strings.Split("-+ #0.*19g%", ""), all)
+	probe.EachWord("%", 4, []string{"0", "1", "12", "12345", "99999", "00000", ".", "*", "+", "s"}, all)
 	for b := range 0x100 {
 		one := string([]byte{byte(b)})
 		for _, s := range []string{one, "%" + one, "%" + one + "d", "%5" + one, "%5" + one + "d", "%." + one, "%.5" + one + "i", one + "d", "%*" + one + "u", "%.*" + one + "c"} {
@@ -401,25 +379,25 @@ func TestNumbers(t *testing.T) {
 			}
 		}
 	}
-	d := dice(1)
+	d := newDice(1)
 	for range 100000 {
-		checkModel(t, d.spec(numberVerbs[d.below(len(numberVerbs))]), d.float())
+		checkModel(t, d.spec(numberVerbs[d.Below(len(numberVerbs))]), d.float())
 	}
 }
 
 // P5.2: as wide as the width, at least; put in are blanks or noughts alone.
 func TestWidths(t *testing.T) {
-	d := dice(2)
+	d := newDice(2)
 	list := edges()
 	for range 20000 {
-		p := d.spec(numberVerbs[d.below(len(numberVerbs))])
-		p.Width = d.below(60)
-		if d.below(50) == 0 {
-			p.Width = api.MaxStr - d.below(3)
+		p := d.spec(numberVerbs[d.Below(len(numberVerbs))])
+		p.Width = d.Below(60)
+		if d.Below(50) == 0 {
+			p.Width = api.MaxStr - d.Below(3)
 		}
 		x := d.float()
-		if d.below(3) == 0 {
-			x = list[d.below(len(list))]
+		if d.Below(3) == 0 {
+			x = list[d.Below(len(list))]
 		}
 		narrow := p
 		narrow.Width = 0
@@ -454,7 +432,7 @@ func putIn(p api.Spec, wide, bare string) bool {
 
 // P5.3, P2: seventeen digits are read as the float they are of.
 func TestThereAndBack(t *testing.T) {
-	d := dice(3)
+	d := newDice(3)
 	list := edges()
 	for range 10000 {
 		list = append(list, d.float())
@@ -518,7 +496,7 @@ func checkText(t *testing.T, p api.Spec, s string) {
 func TestTexts(t *testing.T) {
 	pieces := []string{"a", "\xc3\xa9", "\xe2\x82\xac", "\xf0\x9f\x98\x80", "\xff", "\xc3", "\x80", "\x00", "%", " "}
 	for _, verb := range []byte("sc") {
-		eachWord("", 3, pieces, func(s string) {
+		probe.EachWord("", 3, pieces, func(s string) {
 			for _, width := range []int{0, 1, 2, 3, 4, 13} {
 				for _, prec := range []int{-1, 0, 1, 2, 3, 4, 12} {
 					checkText(t, api.Spec{Zero: true, Width: width, Prec: prec, Verb: verb}, s)
@@ -571,7 +549,7 @@ func conv(x float64, pattern string) string {
 // P5.1: numbers as strings, by right patterns and by wrong ones.
 func TestConv(t *testing.T) {
 	pieces := []string{"%d", "%.3f", "%%", "%", "a", "5", "*", ".", "s", "\xff", "%08.2e", "%-9.%", "%99999.99999%", "%*%", "%.*%", "%1025d", "%.191f", "%1024g", "%c"}
-	eachWord("", 3, pieces, func(s string) {
+	probe.EachWord("", 3, pieces, func(s string) {
 		for _, x := range []float64{0.5, -1234.5678, 1e16} {
 			checkConv(t, x, s, conv(x, s))
 		}
@@ -581,9 +559,9 @@ func TestConv(t *testing.T) {
 			checkConv(t, x, s, conv(x, s))
 		}
 	}
-	d := dice(4)
+	d := newDice(4)
 	for range 20000 {
-		x, p := d.float(), d.spec(numberVerbs[d.below(len(numberVerbs))])
+		x, p := d.float(), d.spec(numberVerbs[d.Below(len(numberVerbs))])
 		checkConv(t, x, written(p), conv(x, written(p)))
 	}
 }

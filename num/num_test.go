@@ -10,6 +10,7 @@ import (
 
 	"thresher/dec"
 	"thresher/num"
+	"thresher/probe"
 )
 
 // The grammar of the chapter, told once more.
@@ -26,31 +27,23 @@ func longest(pattern string) *regexp.Regexp {
 	return r
 }
 
-// dice makes words, always the same ones.
-type dice uint64
+// dice makes numbers by chance.
+type dice struct{ probe.Dice }
 
-func (d *dice) next() uint64 {
-	*d = *d*6364136223846793005 + 1442695040888963407
-	high := uint64(*d >> 32)
-	*d = *d*6364136223846793005 + 1442695040888963407
-	return high<<32 | uint64(*d>>32)
-}
-
-// below: a number from 0 on, less than n.
-func (d *dice) below(n int) int {
-	return int(d.next() >> 40 % uint64(n))
+func newDice(seed uint64) *dice {
+	return &dice{probe.Dice(seed)}
 }
 
 // float: any one, of any size.
 func (d *dice) float() float64 {
-	return math.Float64frombits(d.next())
+	return math.Float64frombits(d.Next())
 }
 
 // near: a finite one, not far from 1, with few binary digits or with many.
 func (d *dice) near() float64 {
-	m := d.next() >> (11 + d.below(52))
-	x := math.Ldexp(float64(m), d.below(120)-80)
-	if d.below(2) == 1 {
+	m := d.Next() >> (11 + d.Below(52))
+	x := math.Ldexp(float64(m), d.Below(120)-80)
+	if d.Below(2) == 1 {
 		return -x
 	}
 	return x
@@ -60,7 +53,7 @@ func (d *dice) near() float64 {
 func (d *dice) digits(n int) string {
 	list := make([]byte, n)
 	for i := range list {
-		list[i] = '0' + byte(d.below(10))
+		list[i] = '0' + byte(d.Below(10))
 	}
 	return string(list)
 }
@@ -72,11 +65,6 @@ func edges() []float64 {
 		list = append(list, x, -x)
 	}
 	return list
-}
-
-// same: the very same float, sign included; all NaNs are one.
-func same(x, y float64) bool {
-	return math.Float64bits(x) == math.Float64bits(y) || math.IsNaN(x) && math.IsNaN(y)
 }
 
 // parsed: the float that a numeral writes (of exponents near enough to 0).
@@ -95,14 +83,14 @@ func short(s string) string {
 
 func checkPrefix(t *testing.T, s string, want float64, size int) {
 	t.Helper()
-	if x, n := num.Prefix(s); !same(x, want) || n != size {
+	if x, n := num.Prefix(s); !probe.Same(x, want) || n != size {
 		t.Fatalf("Prefix(%s): %v and %d instead of %v and %d", short(s), x, n, want, size)
 	}
 }
 
 func checkLiteral(t *testing.T, s string, want float64, size int) {
 	t.Helper()
-	if x, n := num.Literal(s); !same(x, want) || n != size {
+	if x, n := num.Literal(s); !probe.Same(x, want) || n != size {
 		t.Fatalf("Literal(%s): %v and %d instead of %v and %d", short(s), x, n, want, size)
 	}
 }
@@ -128,17 +116,6 @@ func checkTexts(t *testing.T, s string) {
 	} else {
 		m := plain.FindString(s)
 		checkLiteral(t, s, parsed(m), len(m))
-	}
-}
-
-// eachWord goes through all strings of at most so many of these pieces.
-func eachWord(s string, most int, pieces []string, do func(s string)) {
-	do(s)
-	if most == 0 {
-		return
-	}
-	for _, p := range pieces {
-		eachWord(s+p, most-1, pieces, do)
 	}
 }
 
@@ -168,7 +145,7 @@ func TestExamples(t *testing.T) {
 	if x, ok := num.Pow(2, -2); !ok || x != 0.25 {
 		t.Error("Pow(2, -2)", x, ok)
 	}
-	if x, ok := num.Pow(4, 0.5); ok || !same(x, 0) {
+	if x, ok := num.Pow(4, 0.5); ok || !probe.Same(x, 0) {
 		t.Error("Pow(4, 0.5)", x, ok)
 	}
 }
@@ -176,11 +153,11 @@ func TestExamples(t *testing.T) {
 // P4.1: all short texts of the bytes at which numerals turn.
 func TestTexts(t *testing.T) {
 	do := func(s string) { checkTexts(t, s) }
-	eachWord("", 5, strings.Split(" -+07.eEx\r", ""), do)
-	eachWord("", 7, strings.Split("-1.e", ""), do)
-	eachWord("", 4, strings.Split(" \t\n\r\v\f\x00+-5", ""), do)
-	eachWord("0", 4, strings.Split("xX09aAfFgG.e ", ""), do)
-	eachWord("", 2, []string{"nan", "inf", "+inf", "-nan", "0b1", "0o7", "0x1p4", "1_0", "1,5", "\u0661", "\u00a0", "1", " ", "\xff", "1e1e1", "1.1.1", "\u2212"}, do)
+	probe.EachWord("", 5, strings.Split(" -+07.eEx\r", ""), do)
+	probe.EachWord("", 7, strings.Split("-1.e", ""), do)
+	probe.EachWord("", 4, strings.Split(" \t\n\r\v\f\x00+-5", ""), do)
+	probe.EachWord("0", 4, strings.Split("xX09aAfFgG.e ", ""), do)
+	probe.EachWord("", 2, []string{"nan", "inf", "+inf", "-nan", "0b1", "0o7", "0x1p4", "1_0", "1,5", "\u0661", "\u00a0", "1", " ", "\xff", "1e1e1", "1.1.1", "\u2212"}, do)
 	for b := range 0x100 {
 		one := string([]byte{byte(b)})
 		for _, s := range []string{one, one + "1", "1" + one, "1" + one + "1", "." + one, "1e" + one, "1e+" + one, "1." + one, "0x" + one, "0x1" + one, "0" + one + "1", "-" + one + "1", " " + one, "1 " + one} {
@@ -210,14 +187,14 @@ func TestBelow(t *testing.T) {
 
 // P4.1: numerals with many digits, wherever the point stands.
 func TestDigits(t *testing.T) {
-	d := dice(1)
+	d := newDice(1)
 	for range 3000 {
-		s := d.digits(d.below(30))
-		if d.below(3) > 0 {
-			s += "." + d.digits(1+d.below(30))
+		s := d.digits(d.Below(30))
+		if d.Below(3) > 0 {
+			s += "." + d.digits(1+d.Below(30))
 		}
-		if d.below(2) == 1 {
-			s += "e" + strconv.Itoa(d.below(700)-350)
+		if d.Below(2) == 1 {
+			s += "e" + strconv.Itoa(d.Below(700)-350)
 		}
 		checkTexts(t, s)
 	}
@@ -308,9 +285,9 @@ func TestSixteen(t *testing.T) {
 	} {
 		checkLiteral(t, c.s, c.want, c.size)
 	}
-	d := dice(2)
+	d := newDice(2)
 	for range 3000 {
-		n := d.next() >> d.below(64)
+		n := d.Next() >> d.Below(64)
 		checkTexts(t, "0x"+strconv.FormatUint(n, 16))
 		checkTexts(t, "0X"+strings.ToUpper(strconv.FormatUint(n, 16))+"h")
 	}
@@ -318,10 +295,10 @@ func TestSixteen(t *testing.T) {
 
 // P4.1, P4.2: the digits of whole numbers are theirs, and are read as them; all other numbers have none.
 func TestWhole(t *testing.T) {
-	d := dice(3)
+	d := newDice(3)
 	list := edges()
 	for range 5000 {
-		list = append(list, d.float(), d.near(), math.Floor(d.near()), float64(int64(d.next()>>(9+d.below(50)))))
+		list = append(list, d.float(), d.near(), math.Floor(d.near()), float64(int64(d.Next()>>(9+d.Below(50)))))
 	}
 	for n := range 200 {
 		list = append(list, float64(n-100), 1e16-float64(2*n), -1e16+float64(2*n), float64(1<<53+n-100))
@@ -347,7 +324,7 @@ func TestWhole(t *testing.T) {
 
 // P2: floats written with seventeen digits are read as themselves.
 func TestThereAndBack(t *testing.T) {
-	d := dice(4)
+	d := newDice(4)
 	list := edges()
 	for range 3000 {
 		list = append(list, d.float(), d.near())
@@ -366,7 +343,7 @@ func TestThereAndBack(t *testing.T) {
 
 // P4.1: what stands behind the point goes, the sign stays.
 func TestTrunc(t *testing.T) {
-	d := dice(5)
+	d := newDice(5)
 	list := edges()
 	for range 5000 {
 		list = append(list, d.float(), d.near())
@@ -376,7 +353,7 @@ func TestTrunc(t *testing.T) {
 		if math.Abs(x) < 1<<52 {
 			want = math.Copysign(float64(int64(x)), x)
 		}
-		if got := num.Trunc(x); !same(got, want) {
+		if got := num.Trunc(x); !probe.Same(got, want) {
 			t.Fatalf("Trunc(%v): %v instead of %v", x, got, want)
 		}
 	}
@@ -399,7 +376,7 @@ func left(x, y float64) float64 {
 
 func checkMod(t *testing.T, x, y float64) {
 	t.Helper()
-	if got, want := num.Mod(x, y), left(x, y); !same(got, want) {
+	if got, want := num.Mod(x, y), left(x, y); !probe.Same(got, want) {
 		t.Fatalf("Mod(%v, %v): %v instead of %v", x, y, got, want)
 	}
 }
@@ -411,14 +388,14 @@ func TestMod(t *testing.T) {
 			checkMod(t, x, y)
 		}
 	}
-	d := dice(6)
+	d := newDice(6)
 	for range 3000 {
 		checkMod(t, d.float(), d.float())
 		checkMod(t, d.near(), d.near())
 		checkMod(t, d.float(), d.near())
 	}
 	for range 5000 {
-		a, b := int64(d.next()>>(11+d.below(52))), int64(d.next()>>(11+d.below(52)))
+		a, b := int64(d.Next()>>(11+d.Below(52))), int64(d.Next()>>(11+d.Below(52)))
 		if b == 0 {
 			continue
 		}
@@ -451,12 +428,12 @@ func checkPow(t *testing.T, x, y float64) {
 	t.Helper()
 	got, ok := num.Pow(x, y)
 	if !(math.Abs(y) < 1<<53) || y != math.Floor(y) {
-		if ok || !same(got, 0) {
+		if ok || !probe.Same(got, 0) {
 			t.Fatalf("Pow(%v, %v): %v, %t", x, y, got, ok)
 		}
 		return
 	}
-	if want := power(x, y); !ok || !same(got, want) {
+	if want := power(x, y); !ok || !probe.Same(got, want) {
 		t.Fatalf("Pow(%v, %v): %v, %t instead of %v", x, y, got, ok, want)
 	}
 }
@@ -468,11 +445,11 @@ func TestPow(t *testing.T) {
 			checkPow(t, x, y)
 		}
 	}
-	d := dice(7)
+	d := newDice(7)
 	for range 5000 {
-		checkPow(t, d.near(), float64(d.below(80)-40))
+		checkPow(t, d.near(), float64(d.Below(80)-40))
 		checkPow(t, 1+math.Ldexp(d.near(), -60), math.Floor(d.near()))
-		checkPow(t, d.float(), float64(d.below(7)-3))
+		checkPow(t, d.float(), float64(d.Below(7)-3))
 		checkPow(t, d.near(), d.near())
 	}
 	// These differ by the way the products are made, and by where the division stands.
@@ -480,7 +457,7 @@ func TestPow(t *testing.T) {
 		{0, 0, 1}, {math.NaN(), 0, 1}, {math.Inf(1), math.Copysign(0, -1), 1}, {0, -1, math.Inf(1)}, {math.Copysign(0, -1), -3, math.Inf(-1)}, {math.Copysign(0, -1), 3, math.Copysign(0, -1)},
 		{math.Inf(-1), 3, math.Inf(-1)}, {math.Inf(-1), -3, math.Copysign(0, -1)}, {-1, 1<<53 - 1, -1}, {-1, 1<<53 - 2, 1}, {2, 1023, 0x1p1023}, {2, 1024, math.Inf(1)}, {2, -1022, 0x1p-1022}, {2, -1074, 0}, {0.5, 1074, 5e-324}, {10, -5, 1.0 / 100000},
 	} {
-		if got, ok := num.Pow(c.x, c.y); !ok || !same(got, c.want) {
+		if got, ok := num.Pow(c.x, c.y); !ok || !probe.Same(got, c.want) {
 			t.Errorf("Pow(%v, %v): %v, %t instead of %v", c.x, c.y, got, ok, c.want)
 		}
 	}
