@@ -19,50 +19,13 @@ import (
 // letters: bytes that numbers are made of, and others.
 const letters = " \t\n+-.0123456789eExaZ\x00\xff"
 
-// floats: those at which counting turns.
-func floats() []float64 {
-	list := []float64{math.NaN(), math.Float64frombits(0xfff8000000000001), math.Float64frombits(0x7ff0000000000001)}
-	for _, x := range []float64{0, 5e-324, 0x1p-1022, 0.1, 0.25, 1, 1.5, 2, 9, 10, 1e6, 1234567, 1 << 53, 1e16 - 2, 1e16, 1e300, math.MaxFloat64, math.Inf(1)} {
-		list = append(list, x, -x)
-	}
-	return append(list, math.Copysign(0, -1))
-}
-
-// strs: numbers in texts, almost numbers, and others.
-func strs() []string {
-	return []string{"", " ", "0", "00", "-0", "+0", "0.0", ".", "-", "+", "e", "e1", "1", " 1", "1 ", "\t1\n", "\v1", "1\r", "10", "9", "1e1", "1E+1", "1e", "1e+", "1.", ".5", "-.5e-1", "1..", "0x10", "0x", "inf", "nan", "+inf", "+nan", "-inf", "1x", "x1", "1 2", "--1", "+-1", "1e999", "-1e999", "1e-999", "-1e-999", "3.0000000000000001", "\x00", "1\x00", "\xff", "1\xff", "abc", "ab", "abd", "B", "\xc3\xa9", "9007199254740993", "1e-5", "0.25", "0.1"}
-}
-
-// patterns: such as numbers are written by, and such as aren't.
-func patterns() []string {
-	return []string{"%.6g", "%.3f", "%d", "%5.1e", "a%gb%%", "%X", "", "%s", "%d%d", "%", "%*d", "%.200f", "\xff%i", "%%"}
-}
-
-// kinds: the four, and others.
-func kinds() []api.CellKind {
-	return []api.CellKind{api.Uninit, api.Num, api.Str, api.StrNum, 4, 7, -1, math.MaxInt, math.MinInt}
-}
-
-// cells: all kinds, with whatever stands in the fields.
-func cells() []api.Cell {
-	var list []api.Cell
-	for _, k := range kinds() {
-		for _, x := range []float64{0, math.Copysign(0, -1), 1, -2.5, 0.1, 1e300, math.NaN(), math.Inf(1), math.Inf(-1)} {
-			for _, s := range []string{"", "0", "1", " 1 ", "1x", "x", "-0", "-2.5", "0.1", "1e300", "\xff"} {
-				list = append(list, api.Cell{Kind: k, N: x, S: s})
-			}
-		}
-	}
-	return list
-}
-
 // valid: values that may be.
 func valid() []api.Cell {
 	list := []api.Cell{{}}
-	for _, x := range floats() {
+	for _, x := range probe.Floats() {
 		list = append(list, cell.Of(x))
 	}
-	for _, s := range strs() {
+	for _, s := range probe.Texts() {
 		list = append(list, cell.Text(s), cell.Input(s))
 	}
 	return list
@@ -204,17 +167,17 @@ func TestExamples(t *testing.T) {
 
 // P6.1: what makes values.
 func TestMade(t *testing.T) {
-	for _, x := range floats() {
+	for _, x := range probe.Floats() {
 		checkMade(t, cell.Of(x), api.Cell{Kind: api.Num, N: x})
 	}
-	for _, s := range strs() {
+	for _, s := range probe.Texts() {
 		checkMade(t, cell.Text(s), api.Cell{Kind: api.Str, S: s})
 	}
 }
 
 // P6.1, P6.3: all short strings of the bytes at which numbers turn, and longer ones.
 func TestInput(t *testing.T) {
-	for _, s := range strs() {
+	for _, s := range probe.Texts() {
 		checkInput(t, s)
 	}
 	probe.EachWord("", 5, strings.Split(" +-.07eEx", ""), func(s string) { checkInput(t, s) })
@@ -289,8 +252,8 @@ func TestRows(t *testing.T) {
 
 // P6.1: all kinds with all fields, and those that are none.
 func TestCounts(t *testing.T) {
-	for _, conv := range patterns() {
-		for _, c := range slices.Concat(cells(), valid()) {
+	for _, conv := range probe.Patterns() {
+		for _, c := range slices.Concat(probe.Cells(), valid()) {
 			checkCounts(t, c, conv)
 		}
 	}
@@ -298,7 +261,7 @@ func TestCounts(t *testing.T) {
 
 // P6.1: a value may be, if a call that makes values makes it, or nothing was given to it.
 func TestValid(t *testing.T) {
-	for _, c := range slices.Concat(cells(), valid()) {
+	for _, c := range slices.Concat(probe.Cells(), valid()) {
 		want := false
 		for _, made := range []api.Cell{{}, cell.Of(c.N), cell.Text(c.S), cell.Input(c.S)} {
 			want = want || made.Kind == c.Kind && probe.Same(made.N, c.N) && made.S == c.S
@@ -311,18 +274,18 @@ func TestValid(t *testing.T) {
 
 // P6.1, P6.2: Compare, each with each.
 func TestCompare(t *testing.T) {
-	all := slices.Concat(cells(), valid())
+	all := slices.Concat(probe.Cells(), valid())
 	for i, a := range all {
 		for j, b := range all {
 			if i%7 == j%7 || i >= len(all)-60 {
-				checkCompare(t, a, b, patterns()[(i+j)%len(patterns())])
+				checkCompare(t, a, b, probe.Patterns()[(i+j)%len(probe.Patterns())])
 			}
 		}
 	}
 	d := probe.Dice(5)
 	for range 100000 {
 		a := probe.Pick(&d, []api.Cell{cell.Of(math.Float64frombits(d.Next())), cell.Text(d.Word(8, letters)), cell.Input(d.Word(8, letters))})
-		checkCompare(t, a, probe.Pick(&d, all), probe.Pick(&d, patterns()))
+		checkCompare(t, a, probe.Pick(&d, all), probe.Pick(&d, probe.Patterns()))
 	}
 }
 
@@ -394,8 +357,8 @@ func TestThereAndBack(t *testing.T) {
 	d := probe.Dice(9)
 	for i := range 20000 {
 		x := math.Float64frombits(d.Next())
-		if i < len(floats()) {
-			x = floats()[i]
+		if i < len(probe.Floats()) {
+			x = probe.Floats()[i]
 		}
 		if math.IsNaN(x) || math.IsInf(x, 0) {
 			continue
@@ -409,7 +372,7 @@ func TestThereAndBack(t *testing.T) {
 
 // R3, R8: what was handed in stays, and the same is answered each time.
 func TestAgain(t *testing.T) {
-	for _, c := range cells() {
+	for _, c := range probe.Cells() {
 		was := api.Cell{Kind: c.Kind, N: c.N, S: strings.Clone(c.S)}
 		checkCounts(t, c, "%.3e")
 		checkCounts(t, c, "%.3e")
