@@ -77,6 +77,15 @@ func Patterns() []string {
 	return []string{"%.6g", "%.3f", "%d", "%5.1e", "a%gb%%", "%X", "", "%s", "%d%d", "%", "%*d", "%.200f", "\xff%i", "%%"}
 }
 
+// Orders: the names of all orders.
+func Orders() []string {
+	list := []string{"@unsorted"}
+	for _, by := range []string{"ind_str", "ind_num", "val_str", "val_num", "val_type"} {
+		list = append(list, "@"+by+"_asc", "@"+by+"_desc")
+	}
+	return list
+}
+
 // kinds: the four, and others.
 func kinds() []api.CellKind {
 	return []api.CellKind{api.Uninit, api.Num, api.Str, api.StrNum, 4, 7, -1, math.MaxInt, math.MinInt}

@@ -19,15 +19,6 @@ import (
 // letters: bytes that keys are made of.
 const letters = " +-.019eax\x00\xff"
 
-// names: of all orders.
-func names() []string {
-	list := []string{"@unsorted"}
-	for _, by := range []string{"ind_str", "ind_num", "val_str", "val_num", "val_type"} {
-		list = append(list, "@"+by+"_asc", "@"+by+"_desc")
-	}
-	return list
-}
-
 // values: of all kinds, with whatever stands in the fields, and such as may be.
 func values() []api.Cell {
 	list := probe.Cells()
@@ -160,7 +151,7 @@ func order(l []api.Entry, how, conv string) []int {
 // check holds Order against order, in all orders.
 func check(t *testing.T, l []api.Entry, conv string) {
 	t.Helper()
-	for _, how := range names() {
+	for _, how := range probe.Orders() {
 		got, errno := sorts.Order(l, how, conv)
 		if want := order(l, how, conv); errno != api.OK || !slices.Equal(got, want) {
 			t.Fatalf("Order(%v, %q, %q): %v and %d instead of %v", l, how, conv, got, errno, want)
@@ -199,7 +190,7 @@ func TestExamples(t *testing.T) {
 // P7.1: the names, and what is almost one.
 func TestNames(t *testing.T) {
 	isName := map[string]bool{}
-	for _, how := range names() {
+	for _, how := range probe.Orders() {
 		isName[how] = true
 		if !sorts.Known(how) {
 			t.Errorf("Known(%q)", how)
@@ -209,7 +200,7 @@ func TestNames(t *testing.T) {
 		}
 		checkRow(t, keyed("k"), how, "%.6g", 0)
 	}
-	for _, how := range names() {
+	for _, how := range probe.Orders() {
 		near := []string{strings.ToUpper(how), how + how, how + "_asc", how + "_desc", " " + how, how + " ", how + "\x00", how[1:], "@" + how}
 		for i := range how {
 			near = append(near, how[:i], how[:i]+how[i+1:], how[:i]+"_"+how[i:], how[:i]+"\xff"+how[i+1:], how[:i]+string(how[i])+how[i:])
@@ -365,7 +356,7 @@ func TestStay(t *testing.T) {
 	for range 300 {
 		l := entries(&d, 40, all)
 		conv := probe.Pick(&d, probe.Patterns())
-		for _, how := range names() {
+		for _, how := range probe.Orders() {
 			first, _ := sorts.Order(l, how, conv)
 			inOrder := make([]api.Entry, len(l))
 			seen := make([]int, len(l))
@@ -399,7 +390,7 @@ func TestThereAndBack(t *testing.T) {
 func TestAgain(t *testing.T) {
 	room := []api.Entry{{Key: "b", Val: cell.Of(0.5)}, array("a", cell.Of(1)), {Key: "c", Val: cell.Text("x")}, {Key: "spare", Val: cell.Of(7)}}
 	was := slices.Clone(room)
-	for _, how := range names() {
+	for _, how := range probe.Orders() {
 		want := order(room[:3], how, "%.1f")
 		for range 3 {
 			got, _ := sorts.Order(room[:3], how, "%.1f")
